@@ -1,0 +1,1 @@
+"""Saidanew: made words that run in the writer's own words."""

@@ -1,0 +1,65 @@
+"""The interface: each name with its arguments, in the file under which it is listed."""
+
+import ast
+import inspect
+import importlib
+import pathlib
+import unittest
+
+PACKAGE = pathlib.Path(__file__).resolve().parent.parent / "saidanew"
+
+# Of each module that has landed, the functions and the arguments of classes.
+NAMES = {
+    "errors": {
+        "SaidError": None, "NoBook": "(row, why)", "NoText": "(at)", "NoTree": "(path)", "NoProgram": "(row, why)",
+        "NoLine": None, "NoKind": "(path)", "NoPlace": "(path)", "TooMany": "(most)", "AtEnd": None, "NoRow": None,
+        "NoRun": None, "NoChange": None,
+    },
+    "trees": {
+        "is_tree": "(thing)", "subtree": "(tree, path)", "with_subtree": "(tree, path, other)", "count": "(tree)",
+        "inked": "(tree)", "bared": "(tree)",
+    },
+    "books": {"Book": "(text)"},
+}
+METHODS = {
+    "Book": {
+        "rule": "(self, word, n)", "names": "(self, word, n)", "scopes": "(self, word, n)",
+        "with_clear": "(self, word, rule, path)", "renamed": "(self, names)", "__len__": "(self)", "__eq__": "(self, other)",
+    },
+}
+PROPERTIES = {"Book": ("text", "words", "functions")}
+
+
+class Interface(unittest.TestCase):
+
+    def test_names_and_arguments(self):
+        for module, names in NAMES.items():
+            loaded = importlib.import_module("saidanew." + module)
+            tree = ast.parse((PACKAGE / (module + ".py")).read_text())
+            defined = [node.name for node in tree.body if isinstance(node, (ast.FunctionDef, ast.ClassDef))]
+            for name, arguments in names.items():
+                with self.subTest(module=module, name=name):
+                    self.assertIn(name, defined)
+                    thing = getattr(loaded, name)
+                    self.assertEqual(thing.__module__, "saidanew." + module)
+                    if arguments is not None:
+                        self.assertEqual(str(inspect.signature(thing)), arguments)
+
+    def test_methods_and_properties_in_the_body_of_their_class(self):
+        for module, names in NAMES.items():
+            for name in names:
+                thing = getattr(importlib.import_module("saidanew." + module), name)
+                for method, arguments in METHODS.get(name, {}).items():
+                    with self.subTest(name=name, method=method):
+                        self.assertEqual(str(inspect.signature(vars(thing)[method])), arguments)
+                for one in PROPERTIES.get(name, ()):
+                    with self.subTest(name=name, property=one):
+                        self.assertIsInstance(vars(thing)[one], property)
+
+    def test_inked_is_a_generator(self):
+        from saidanew.trees import inked
+        self.assertTrue(inspect.isgeneratorfunction(inked))
+
+
+if __name__ == "__main__":
+    unittest.main()
