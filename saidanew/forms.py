@@ -2,94 +2,84 @@
 
 from saidanew.errors import NoText
 from saidanew.names import is_name
-from saidanew.tokens import STAR, is_number
+from saidanew.tokens import is_cell, is_number, is_quote
 from saidanew.trees import MOST_PARAMETERS
 
-# What stands behind a head: a binder's name, the names of parameters, a tree, or trees up to the end.
-SLOTS = {
-    "fun": ("names", "tree"),
-    "call": ("tree", "trees"),
-    "let": ("name", "tree", "tree"),
-    "try": ("tree", "name", "tree"),
-    "if": ("tree", "tree", "tree"),
-    "do": ("tree",), "not": ("tree",), "first": ("tree",), "rest": ("tree",), "none": ("tree",),
-    "cell": ("tree",), "get": ("tree",), "raise": ("tree",), "say": ("tree",),
-    "seq": ("tree", "tree"), "plus": ("tree", "tree"), "minus": ("tree", "tree"),
-    "times": ("tree", "tree"), "less": ("tree", "tree"), "same": ("tree", "tree"),
-    "put": ("tree", "tree"), "set": ("tree", "tree"),
-    "list": ("trees",),
+# How many trees may stand behind a head: at least, and at most (None is any number).
+SIZES = {
+    "fun": (1, 1), "call": (1, None), "let": (2, 2), "if": (3, 3), "list": (0, None), "try": (2, 2),
+    "do": (1, 1), "not": (1, 1), "first": (1, 1), "rest": (1, 1), "none": (1, 1),
+    "cell": (1, 1), "get": (1, 1), "raise": (1, 1), "say": (1, 1),
+    "seq": (2, 2), "plus": (2, 2), "minus": (2, 2), "times": (2, 2), "less": (2, 2), "same": (2, 2),
+    "put": (2, 2), "set": (2, 2),
 }
-SLOTS_OF_USE = ("trees",)
-# The head of the place where a rest stands; no head of a tree is written so.
+# How many parts stand ahead of a rest, at least.
+AHEAD_OF_REST = {"use": 0, "list": 0, "call": 1}
+# What a rest begins with, where it is an argument and where it stands.
 REST = ".."
+FLAGS = ("true", "false")
+# The outermost form, which is not written, has what is written as its only part.
+TOP = "top"
 
 
 class Form:
-    """A node of an expression as it is written.
+    """What is written in brackets; what is written without them is its token alone.
 
-    The head is that of the tree, or REST. The word is the token of what stands
-    without parentheses, and the made word of a use. The token at which the form
-    begins is that of its parenthesis, also if a star stands ahead of it.
+    The head is that of the tree. The word is that of a use, else None. `at` is
+    the token of the opening bracket. `most` is how many parts may stand here.
     """
 
-    def __init__(self, head, word, at):
+    def __init__(self, head, word, at, least, most):
         self.head = head
         self.word = word
         self.at = at
-        self.is_clear = False
-        self.binders = []
+        self.least = least
+        self.most = most
+        self.binders = ()
         self.parts = []
+        self.ends_in_rest = False
 
-    def is_in_parentheses(self):
-        """Whether the node is written in parentheses."""
-        return self.head in SLOTS or self.head == "use"
 
-    def ends_in_rest(self):
-        """Whether the last part is the place of a rest."""
-        return len(self.parts) > 0 and self.parts[-1].head == REST
-
-    def all_forms(self):
-        """This form and all forms inside of it, also those in the place of a name."""
-        found = []
-        waiting = [self]
-        while waiting:
-            form = waiting.pop()
+def forms_in(part):
+    """All forms of what is written, itself and inside of it, in no special order."""
+    found = []
+    waiting = [part]
+    while waiting:
+        form = waiting.pop()
+        if not isinstance(form, str):
             found.append(form)
             waiting.extend(form.parts)
-        return found
-
-    def uses(self):
-        """All uses among these forms."""
-        return [form for form in self.all_forms() if form.head == "use"]
+    return found
 
 
 class Parser:
     """Takes what is expected off a list of tokens, or raises NoText where it does not follow.
 
-    The rest is the name behind the two dots that may stand there, or None.
+    The rest is the token that may stand for one, or None. All forms are kept
+    that are uses, all names of binders that are no arguments, and how many
+    rests there were. `leaves` holds tokens that are known as expressions.
     """
 
-    def __init__(self, tokens, at, rest=None, stars=False):
-        self.tokens = tokens
+    def __init__(self, tokens, at, leaves, rest=None, has_cells=False):
+        # The empty token can follow nowhere: so the end is no special case.
+        self.tokens = tokens + [""]
         self.at = at
-        self.rest_token = None if rest is None else REST + rest
-        self.stars = stars
-
-    def token(self):
-        """The next token, which stays."""
-        if self.at >= len(self.tokens):
-            raise NoText(self.at)
-        return self.tokens[self.at]
+        self.leaves = leaves
+        self.rest_token = rest
+        self.has_cells = has_cells
+        self.uses = []
+        self.binders = []
+        self.rests = 0
 
     def take(self, wanted):
         """Takes this very token."""
-        if self.token() != wanted:
+        if self.tokens[self.at] != wanted:
             raise NoText(self.at)
         self.at += 1
 
     def take_name(self):
         """Takes a name."""
-        token = self.token()
+        token = self.tokens[self.at]
         if not is_name(token):
             raise NoText(self.at)
         self.at += 1
@@ -99,81 +89,103 @@ class Parser:
         """Takes at most so many names and the parentheses around them."""
         self.take("(")
         names = []
-        while len(names) < most and self.token() != ")":
+        while len(names) < most and self.tokens[self.at] != ")":
             names.append(self.take_name())
         self.take(")")
-        return names
+        return tuple(names)
 
     def last_expression(self):
         """Takes an expression behind which nothing stands."""
         form = self.expression()
-        if self.at < len(self.tokens):
+        if self.at < len(self.tokens) - 1:
             raise NoText(self.at)
         return form
 
     def expression(self):
-        """Takes an expression."""
-        if self.token() == "(" or (self.token() == STAR and self.stars):
-            return self._parenthesized()
-        return self._leaf()
-
-    def _parenthesized(self):
-        is_clear = self.token() == STAR
-        if is_clear:
-            self.at += 1
-        at = self.at
-        self.take("(")
-        form = self._headed(at)
-        form.is_clear = is_clear
-        slots = SLOTS_OF_USE if form.head == "use" else SLOTS[form.head]
-        for slot in slots:
-            if slot == "tree":
-                form.parts.append(self.expression())
-            elif slot == "name":
-                form.binders.append(self.take_name())
-            elif slot == "names":
-                form.binders.extend(self.take_names(MOST_PARAMETERS))
+        """Takes an expression: a form, or a token."""
+        tokens = self.tokens
+        leaves = self.leaves
+        around = []
+        form = Form(TOP, None, self.at, 1, 1)
+        while around or not form.parts:
+            token = tokens[self.at]
+            if token == ")" or token == "]":
+                self._close(form, token)
+                form = around.pop()
+            elif len(form.parts) == form.most:
+                self._take_name_between(form)
+            elif token in leaves or self._is_leaf(token):
+                form.parts.append(token)
+                self.at += 1
+            elif token == "(" or token == "[":
+                around.append(form)
+                form = self._opened(token)
+                around[-1].parts.append(form)
             else:
-                while self.token() not in (")", self.rest_token):
-                    form.parts.append(self.expression())
-                form.parts.extend(self._rest())
-        self.take(")")
+                self._take_rest(form)
+        return form.parts[0]
+
+    def _opened(self, bracket):
+        """Takes what stands ahead of the first tree of a form, and begins this form."""
+        at = self.at
+        self.at += 1
+        if bracket == "[":
+            if not self.has_cells:
+                raise NoText(at)
+            return Form("made", None, at, 0, None)
+        head = self.tokens[self.at]
+        if head in SIZES:
+            self.at += 1
+            least, most = SIZES[head]
+            form = Form(head, None, at, least, most)
+            if head in ("fun", "let", "try"):
+                self._take_binders(form)
+        else:
+            form = Form("use", self.take_name(), at, 0, None)
+            self.uses.append(form)
         return form
 
-    def _headed(self, at):
-        """Takes a head, and begins the form that has it and began at this token."""
-        head = self.token()
-        if head not in SLOTS and not is_name(head):
+    def _take_binders(self, form):
+        """Takes the names that stand straight behind a head."""
+        if form.head == "fun":
+            form.binders = self.take_names(MOST_PARAMETERS)
+        elif form.head == "let":
+            form.binders = (self.take_name(),)
+        else:
+            # Behind its first tree a `try` goes on with a name.
+            form.most = 1
+        self.binders.extend(form.binders)
+
+    def _take_name_between(self, form):
+        """Takes the name behind the first tree of a `try`; behind all else nothing may follow."""
+        if form.head != "try" or form.binders:
+            raise NoText(self.at)
+        form.binders = (self.take_name(),)
+        form.most = 2
+        self.binders.extend(form.binders)
+
+    def _take_rest(self, form):
+        """Takes the rest, behind which nothing may follow."""
+        token = self.tokens[self.at]
+        ahead = AHEAD_OF_REST.get(form.head)
+        if token != self.rest_token or ahead is None or len(form.parts) < ahead:
+            raise NoText(self.at)
+        form.parts.append(token)
+        form.ends_in_rest = True
+        form.most = len(form.parts)
+        self.at += 1
+        self.rests += 1
+
+    def _close(self, form, bracket):
+        """Takes the closing bracket of a form."""
+        wanted = "]" if form.head == "made" else ")"
+        if bracket != wanted or len(form.parts) < form.least:
             raise NoText(self.at)
         self.at += 1
-        if head in SLOTS:
-            return Form(head, None, at)
-        return Form("use", head, at)
 
-    def _rest(self):
-        """Takes the rest if it stands there; a list of it or of nothing."""
-        if self.token() != self.rest_token:
-            return []
-        self.at += 1
-        return [Form(REST, self.rest_token, self.at - 1)]
-
-    def _leaf(self):
-        token = self.token()
-        head = _leaf_head(token)
-        if head is None:
-            raise NoText(self.at)
-        self.at += 1
-        return Form(head, token, self.at - 1)
-
-
-def _leaf_head(token):
-    """The head of what is written as this one token, or None."""
-    if token in ("true", "false"):
-        return "flag"
-    if token.startswith("'") and is_name(token[1:]):
-        return "quote"
-    if is_number(token):
-        return "int"
-    if is_name(token):
-        return "name"
-    return None
+    def _is_leaf(self, token):
+        """Whether a token is an expression by itself; such tokens are kept."""
+        if is_name(token) or token in FLAGS or is_number(token) or is_quote(token):
+            self.leaves[token] = True
+            return True
+        return self.has_cells and is_cell(token)

@@ -15,6 +15,8 @@ SIZES = {
 }
 # The least number of items, where all of them are trees and there may be more.
 LEAST = {"list": 0, "call": 1}
+# The index of the first item that is a tree, where it is not 0 and there are such items.
+FIRST_TREE = {"fun": 1, "use": 2}
 MOST_PARAMETERS = 4
 
 
@@ -25,7 +27,7 @@ def is_tree(thing):
         node = waiting.pop()
         if not _is_node(node):
             return False
-        waiting.extend(_items_to_be_trees(node))
+        waiting.extend(trees_of(node))
     return True
 
 
@@ -38,12 +40,18 @@ def subtree(tree, path):
 
 def with_subtree(tree, path, other):
     """The tree with another one at a path."""
-    if not path:
-        return other
-    head, ink, items = tree
-    at = path[0]
-    inner = with_subtree(items[at], path[1:], other)
-    return (head, ink, items[:at] + (inner,) + items[at + 1:])
+    above = []
+    for at in path:
+        above.append((tree, at))
+        tree = tree[2][at]
+    return put_below(above, other)
+
+
+def put_below(above, tree):
+    """The whole tree below whose nodes, each with the index of an item, this tree is put."""
+    for (head, ink, items), at in reversed(above):
+        tree = (head, ink, items[:at] + (tree,) + items[at + 1:])
+    return tree
 
 
 def count(tree):
@@ -73,13 +81,35 @@ def inked(tree):
 
 def bared(tree):
     """The tree with all inks empty."""
-    items = []
-    for item in tree[2]:
-        if isinstance(item, tuple):
-            items.append(bared(item))
+    done = []
+    waiting = [(tree, False)]
+    while waiting:
+        node, is_open = waiting.pop()
+        if is_open:
+            done.append(gathered(node, done))
         else:
-            items.append(item)
-    return (tree[0], (), tuple(items))
+            waiting.append(((node[0], (), node[2]), True))
+            waiting.extend([(inner, False) for inner in trees_of(node)[::-1]])
+    return done[0]
+
+
+def trees_of(node):
+    """The items of a node that are trees; they are its last ones."""
+    head, _, items = node
+    if head in SINGLE:
+        return ()
+    first = FIRST_TREE.get(head, 0)
+    return items[first:] if first else items
+
+
+def gathered(node, done):
+    """The node with its trees replaced by as many trees at the end of a list, which are taken off there."""
+    head, ink, items = node
+    first = len(items) - len(trees_of(node))
+    cut = len(done) - len(items) + first
+    trees = tuple(done[cut:])
+    del done[cut:]
+    return (head, ink, items[:first] + trees)
 
 
 def _is_node(thing):
@@ -103,7 +133,7 @@ def _items_fit(head, items):
     if head in LEAST:
         return len(items) >= LEAST[head]
     if head == "fun":
-        return len(items) == 2 and _is_index(items[0]) and items[0] <= MOST_PARAMETERS
+        return len(items) == 2 and is_index(items[0]) and items[0] <= MOST_PARAMETERS
     if head == "use":
         return _is_use(items)
     return head in SINGLE and len(items) == 1 and _single_fits(head, items[0])
@@ -118,13 +148,13 @@ def _single_fits(head, item):
     if head == "ref":
         return _is_integer(item) and item >= 1
     if head == "name":
-        return _is_index(item)
+        return is_index(item)
     return is_name(item)
 
 
 def _is_use(items):
     """Whether a use may have these items: its expressions are not more than its arguments."""
-    if len(items) < 2 or not is_name(items[0]) or not _is_index(items[1]):
+    if len(items) < 2 or not is_name(items[0]) or not is_index(items[1]):
         return False
     return len(items) - 2 <= items[1]
 
@@ -132,18 +162,6 @@ def _is_use(items):
 def _may_be_made_of(thing):
     """Whether a thing has the head of what may stand in a `made`."""
     return isinstance(thing, tuple) and len(thing) == 3 and thing[0] in MADE_OF
-
-
-def _items_to_be_trees(node):
-    """The items that have to be trees by the head of the node."""
-    head, _, items = node
-    if head in SINGLE:
-        return ()
-    if head == "fun":
-        return items[1:]
-    if head == "use":
-        return items[2:]
-    return items
 
 
 def _is_ink(thing):
@@ -156,9 +174,12 @@ def _is_mark(thing):
     if not isinstance(thing, tuple) or len(thing) != 3:
         return False
     word, rule, path = thing
-    if not is_name(word) or not _is_index(rule) or not isinstance(path, tuple):
-        return False
-    return all([_is_index(at) for at in path])
+    return is_name(word) and is_index(rule) and is_path(path)
+
+
+def is_path(thing):
+    """Whether a thing is a tuple of indexes."""
+    return isinstance(thing, tuple) and all([is_index(at) for at in thing])
 
 
 def _is_integer(thing):
@@ -166,6 +187,6 @@ def _is_integer(thing):
     return isinstance(thing, int) and not isinstance(thing, bool)
 
 
-def _is_index(thing):
+def is_index(thing):
     """Whether a thing is an integer from 0 on."""
     return _is_integer(thing) and thing >= 0

@@ -20,14 +20,24 @@ NAMES = {
         "inked": "(tree)", "bared": "(tree)",
     },
     "books": {"Book": "(text)"},
+    "texts": {"read_tree": "(text, book, functions=())", "show_tree": "(tree, book, functions=())"},
+    "reading": {"reading": "(book, tree)", "turned": "(book, tree)", "is_turned": "(tree)"},
+    "papers": {"why_hidden": "(book, tree)", "paper_holds": "(book, tree, value)"},
+    "programs": {"Program": "(book, text)"},
+    "steps": {
+        "State": "(term, cells=())", "settled": "(term, cells)", "step": "(program, state)", "outcome": "(state)",
+        "line_of": "(program, state)", "state_of": "(program, text)",
+    },
 }
 METHODS = {
     "Book": {
         "rule": "(self, word, n)", "names": "(self, word, n)", "scopes": "(self, word, n)",
         "with_clear": "(self, word, rule, path)", "renamed": "(self, names)", "__len__": "(self)", "__eq__": "(self, other)",
     },
+    "Program": {"body": "(self, f)", "__eq__": "(self, other)"},
+    "State": {"__eq__": "(self, other)"},
 }
-PROPERTIES = {"Book": ("text", "words", "functions")}
+PROPERTIES = {"Book": ("text", "words", "functions"), "Program": ("book", "functions", "start")}
 
 
 class Interface(unittest.TestCase):

@@ -1,6 +1,7 @@
 """The rules of the Python subset that can be seen file by file."""
 
 import ast
+import builtins
 import pathlib
 import re
 import unittest
@@ -11,7 +12,9 @@ BUILTINS = set("""len range enumerate zip min max sum abs sorted reversed int st
     Exception ValueError TypeError KeyError IndexError LookupError ZeroDivisionError StopIteration""".split())
 METHODS = set("""append clear copy count endswith extend find get index insert isalnum isalpha isdigit islower isspace
     isupper items join keys ljust lower lstrip partition pop remove replace reverse rfind rjust rpartition rsplit rstrip
-    setdefault split splitlines startswith strip update upper values zfill bit_length""".split())
+    setdefault split splitlines startswith strip update upper values zfill bit_length
+    title capitalize swapcase casefold center expandtabs removeprefix removesuffix rindex isascii isdecimal isnumeric
+    istitle isidentifier isprintable""".split())
 SPECIAL = set("__init__ __eq__ __repr__ __str__ __len__ __enter__ __exit__ __call__ __iter__".split())
 WORDS = re.compile(r"\b(typing|enum|Enum|Flag|Generic|Protocol|ABC|namedtuple|abstractmethod)\b"
                    r"|dataclass|overload|contextmanager|_wall|_WallAttr")
@@ -120,7 +123,7 @@ class Language(unittest.TestCase):
             imports_and_classes = {node.name for node in ast.walk(tree) if isinstance(node, ast.ClassDef)}
             imports_and_classes |= {a.name for n in ast.walk(tree) if isinstance(n, ast.ImportFrom) for a in n.names}
             with self.subTest(path.name):
-                self.assertEqual(bound & (BUILTINS | NOWHERE), set())
+                self.assertEqual(bound & (BUILTINS | NOWHERE | set(dir(builtins)) - {"_"}), set())
             for node in ast.walk(tree):
                 if isinstance(node, ast.Name) and isinstance(node.ctx, ast.Load):
                     with self.subTest(path.name, line=node.lineno, name=node.id):

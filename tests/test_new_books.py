@@ -1,9 +1,12 @@
 """[32]: books with more clear nodes, and with other names of words."""
 
+import sys
 import unittest
 
 from saidanew.books import Book
 from saidanew.errors import NoPlace
+from saidanew.reading import reading
+from saidanew.texts import read_tree
 
 TEXT = """word or
 rule a => (do a)
@@ -215,6 +218,83 @@ rule a ..r => (list a (call a (do a) ..r))""")
         one = self.book.with_clear("for", 0, (0,)).renamed(names)
         two = self.book.renamed(names).with_clear("or", 0, (0,))
         self.assertEqual(one, two)
+
+
+SLOW = """word for
+rule !x a b => (call (fun (x) (let oa (plus b 1) (if oa b 2))) a)
+rule a => (do (list a (plus a 3) (times a a) (not true)))
+word or
+rule !x a b => (let x (do a) (let oa (do x) (try (plus oa b) ob b)))
+word w
+rule a b c => (list (or x a (or y b c)) (for p (for q a b) (do c)))
+fun x () => 1
+fun y () => 2"""
+SLOW_NODES = [("for", 0, (0,)), ("for", 0, (0, 1)), ("for", 0, (0, 1, 0)), ("for", 0, (0, 1, 1)), ("for", 1, (0,)),
+              ("for", 1, (0, 1)), ("or", 0, (0,)), ("or", 0, (1, 1)), ("w", 0, (0,)), ("w", 0, (0, 3)), ("w", 0, (1, 3))]
+
+
+def calls_in(action):
+    """How many functions written in Python an action calls."""
+    many = []
+    sys.setprofile(lambda frame, event, argument: many.append(1) if event == "call" else None)
+    try:
+        action()
+    finally:
+        sys.setprofile(None)
+    return len(many)
+
+
+class Quickly(unittest.TestCase):
+    """Books of one writer's rows are not read and judged more often than they must be."""
+
+    def all_told(self, book):
+        told = [book.text, book.words, book.functions, len(book)]
+        for word in book.words + ("x", "zz"):
+            for n in range(9):
+                told.append((book.rule(word, n), book.names(word, n), book.scopes(word, n)))
+        return told
+
+    def test_two_nodes_in_either_order_and_the_book_of_the_text(self):
+        book = Book(SLOW)
+        text = "(w (for p 1 (or q p q)) (for (list 1)) (fun (x) (or y x 2)))"
+        for one in SLOW_NODES:
+            for two in SLOW_NODES:
+                first = book.with_clear(*one).with_clear(*two)
+                second = book.with_clear(*two).with_clear(*one)
+                typed = Book(first.text)
+                self.assertEqual(first, second)
+                self.assertEqual(first, typed)
+                self.assertEqual(first.text.count("*"), 1 if one == two else 2)
+                self.assertEqual(self.all_told(first), self.all_told(typed))
+                tree = read_tree(text, book)
+                self.assertEqual(reading(first, tree), reading(typed, tree))
+                self.assertEqual(reading(second, tree), reading(typed, tree))
+                names = {"or": "either", "for": "w", "w": "for"}
+                self.assertEqual(first.renamed(names), typed.renamed(names))
+        self.assertEqual(book.text, SLOW)
+        self.assertEqual(self.all_told(book), self.all_told(Book(SLOW)))
+
+    def test_a_refused_node_changes_nothing(self):
+        book = Book(SLOW).with_clear("w", 0, (0,))
+        before = self.all_told(book)
+        for word, rule, path in (("w", 0, ()), ("w", 0, (0, 2)), ("w", 1, (0,)), ("zz", 0, (0,)), ("w", 0, (0, 3, 9))):
+            with self.assertRaises(NoPlace):
+                book.with_clear(word, rule, path)
+        self.assertEqual(self.all_told(book), before)
+
+    def test_a_clearer_book_costs_little_of_what_a_new_one_costs(self):
+        book = Book(SLOW)
+        for one in SLOW_NODES:
+            other = book.with_clear(*one)
+            for two in SLOW_NODES:
+                many = calls_in(lambda: other.with_clear(*two))
+                self.assertLess(many * 6, calls_in(lambda: Book(SLOW)))
+
+    def test_a_book_costs_some_calls_for_each_token(self):
+        for text in (SLOW, SLOW.replace("word ", "word a").replace("(or ", "(aor ").replace("(for ", "(afor ") + "\n" + SLOW.replace(
+                "fun x", "fun p").replace("fun y", "fun q").replace("(or x a (or y", "(or p a (or q")):
+            tokens = len(text.replace("(", " ( ").replace(")", " ) ").split())
+            self.assertLess(calls_in(lambda: Book(text)), 6 * tokens)
 
 
 if __name__ == "__main__":
