@@ -181,12 +181,15 @@ def _stars_stand_right(row):
 
 def _without_stars(tokens):
     """The tokens without stars, and the indexes of those at which a star stood ahead."""
-    starless = [token for token in tokens if token != STAR]
+    if STAR not in tokens:
+        return tokens, ()
+    starless = []
     clear_ones = []
-    if len(starless) < len(tokens):
-        for at, token in enumerate(tokens):
-            if token == STAR:
-                clear_ones.append(at - len(clear_ones))
+    for token in tokens:
+        if token == STAR:
+            clear_ones.append(len(starless))
+        else:
+            starless.append(token)
     return starless, tuple(clear_ones)
 
 

@@ -133,6 +133,22 @@ class Language(unittest.TestCase):
                     with self.subTest(path.name, line=node.lineno, name=name):
                         self.assertNotIn(name, imports_and_classes)
 
+    def test_names_of_properties_methods_and_attributes(self):
+        properties, methods, attributes = set(), set(), set()
+        for path in files():
+            for node in ast.walk(parsed(path)):
+                if isinstance(node, ast.FunctionDef) and node.decorator_list:
+                    properties.add(node.name)
+                if isinstance(node, ast.ClassDef):
+                    own = {one.name for one in node.body if isinstance(one, ast.FunctionDef) and not one.decorator_list}
+                    methods |= own
+                if isinstance(node, ast.Attribute) and isinstance(node.ctx, ast.Store):
+                    attributes.add(node.attr)
+        self.assertEqual(properties & (methods | attributes), set())
+        self.assertEqual(methods & attributes, set())
+        self.assertEqual(attributes & set("items keys values pop update append clear extend insert remove reverse setdefault "
+                                          "sort args encode decode hex fromhex format format_map mro".split()), set())
+
     def test_methods_are_known_ones(self):
         own = set()
         for path in files():
