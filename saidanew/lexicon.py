@@ -9,8 +9,9 @@ NOTHING = ()
 class Lexicon:
     """The rules of each word, and the functions, of the rows of a book.
 
-    Scopes are told for rules only for which they have been set. Templates are
-    kept here once they have been asked for.
+    Scopes are told for rules only for which they have been set. What takes
+    time to be found is kept here once it has been asked for: templates, and
+    the trees about which papers were asked last.
     """
 
     def __init__(self, rules, functions):
@@ -20,6 +21,7 @@ class Lexicon:
         self.all_words = tuple(rules)
         self.known_scopes = {}
         self.templates = {}
+        self.sights = []
 
     def with_row(self, row):
         """The lexicon with this row in the place of one that differs only in what is clear."""

@@ -1,7 +1,9 @@
 """[17]: papers."""
 
 import unittest
+from unittest import mock
 
+from saidanew import papers as papers_module
 from saidanew.books import Book
 from saidanew.papers import paper_holds, why_hidden
 from saidanew.programs import Program
@@ -299,6 +301,67 @@ class Values(unittest.TestCase):
                     for value in values:
                         self.assertEqual(paper_holds(book, tree, value), value in papers)
         self.assertEqual(kinds, set(KINDS))
+
+
+class AskedOften(unittest.TestCase):
+    """What is asked about one tree again and again is quick, and is told as it is by a book that was asked nothing."""
+
+    def setUp(self):
+        self.maker = samples.Maker(BOOK, 11)
+        self.trees = [changed(reading(BOOK, self.maker.tree(4)), self.maker) for _ in range(12)]
+        self.trees += [("list", (), (integer(1), tree)) for tree in self.trees[:6]]
+
+    def values(self, tree):
+        for path in sorted(paths(turned(BOOK, tree)))[:6]:
+            yield from (("lost", path), ("count", path), ("part", path, ()), ("part", path, (1,)), ("own", path, 0),
+                        ("unlike", path, 1), ("lost", path + (9,)), None, ("own", path), ("lost", (True,)))
+
+    def test_a_tree_is_turned_back_once_for_many_values(self):
+        book = Book(BOOK.text)
+        tree = ("do", (), (read("(or 1 2 3)"),))
+        inner = with_subtree(tree, (0, 0), read("(for x 1 (w x x))"))
+        with mock.patch.object(papers_module, "turned_back", wraps=papers_module.turned_back) as turning:
+            for one in (tree, inner, tree[2][0], ("list", (), (inner, inner))):
+                before = turning.call_count
+                why_hidden(book, one)
+                for value in list(self.values(one)) * 3:
+                    paper_holds(book, one, value)
+                self.assertLessEqual(turning.call_count, before + 1)
+
+    def test_the_same_whatever_was_asked_in_between(self):
+        asked = [(tree, value) for tree in self.trees for value in self.values(tree)]
+        fresh = {}
+        for at, (tree, value) in enumerate(asked):
+            book = Book(BOOK.text)
+            fresh[at] = (why_hidden(book, tree), paper_holds(book, tree, value))
+        for seed in range(3):
+            order = list(range(len(asked)))
+            samples.random.Random(seed).shuffle(order)
+            for at in order:
+                tree, value = asked[at]
+                self.assertEqual(paper_holds(BOOK, tree, value), fresh[at][1])
+                self.assertEqual(why_hidden(BOOK, tree), fresh[at][0])
+
+    def test_a_book_with_more_clear_nodes_is_asked_by_itself(self):
+        book = Book(OR.replace("*", ""))
+        tree = reading(book, read_tree("(or 1 2)", book))
+        self.assertIsNone(why_hidden(book, tree))
+        clear = book.with_clear("or", 1, (1, 2))
+        self.assertEqual(why_hidden(clear, tree), why_hidden(Book(OR), tree))
+        self.assertIsNotNone(why_hidden(clear, tree))
+        self.assertIsNone(why_hidden(book, tree))
+
+    def test_equal_trees_that_are_deeper_than_python_compares(self):
+        def deep():
+            tree = subtree(read("(or 1 2)"), (1,))
+            for _ in range(700):
+                tree = ("do", (), (tree,))
+            return tree
+
+        for _ in range(2):
+            self.assertEqual(why_hidden(BOOK, deep()), ("lost", (0,) * 700))
+            self.assertTrue(paper_holds(BOOK, deep(), ("lost", (0,) * 700)))
+            self.assertFalse(paper_holds(BOOK, deep(), ("lost", (0,) * 699)))
 
 
 if __name__ == "__main__":
