@@ -1,6 +1,6 @@
 """Cells: which ones a tree leads to, and how they are numbered."""
 
-from saidanew.trees import gathered, trees_of
+from saidanew.trees import trees_of, with_trees
 
 
 def cells_in(tree):
@@ -22,7 +22,7 @@ def led_to(term, values):
     """
     known = {}
     # What comes is put behind what is there, so that the cells' values come in their order.
-    row = cells_in(term)
+    row = list(cells_in(term))
     at = 0
     while at < len(row):
         if row[at] not in known:
@@ -43,13 +43,17 @@ def numbered(term, values):
 
 def renumbered(tree, numbers):
     """The tree with its cells numbered anew by a dict."""
+    # Properties are told by this, so that it may change no list but its own ones.
     done = []
     waiting = [(tree, False)]
     while waiting:
         node, is_open = waiting.pop()
         trees = trees_of(node)
         if is_open:
-            done.append(gathered(node, done))
+            inner = []
+            while len(inner) < len(trees):
+                inner.append(done.pop())
+            done.append(with_trees(node, inner[::-1]))
         elif node[0] == "ref":
             done.append(("ref", (), (numbers[node[2][0]],)))
         elif not trees:

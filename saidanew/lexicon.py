@@ -10,8 +10,9 @@ class Lexicon:
     """The rules of each word, and the functions, of the rows of a book.
 
     Scopes are told for rules only for which they have been set. What takes
-    time to be found is kept here once it has been asked for: templates, and
-    the trees about which papers were asked last.
+    time to be found is kept here once it has been asked for: templates, the
+    trees about which papers were asked last, what uses read as, and the bodies
+    of functions.
     """
 
     def __init__(self, rules, functions):
@@ -22,6 +23,8 @@ class Lexicon:
         self.known_scopes = {}
         self.templates = {}
         self.sights = []
+        self.expansions = {}
+        self.bodies = {}
 
     def with_row(self, row):
         """The lexicon with this row in the place of one that differs only in what is clear."""

@@ -42,7 +42,11 @@ class Scene:
 
 def reading(book, tree):
     """The core tree that a tree reads as."""
-    lexicon = book.lexicon
+    return read_by(book.lexicon, tree)
+
+
+def read_by(lexicon, tree):
+    """The core tree that a tree reads as by the rules of a lexicon."""
     done = []
     waiting = [(tree, Scene((), (), ()), 0)]
     while waiting:

@@ -9,7 +9,7 @@ from saidanew.reading import is_turned, reading, turned
 from saidanew.texts import show_tree
 from saidanew.tokens import tokens_of
 from saidanew.trees import put_below
-from saidanew.working import is_value, own_step, place_of_work
+from saidanew.working import is_value, own_step, place_of_catcher, place_of_work
 
 
 class State:
@@ -51,11 +51,11 @@ def step(program, state):
 
 def caught(node, above):
     """The term behind a raise below these nodes: the innermost `try` has caught it, or it is all that is left."""
-    for at in reversed(range(len(above))):
-        outer = above[at][0]
-        if outer[0] == "try":
-            return put_below(above[:at], filled(outer[2][1], node[2]))
-    return node
+    at = place_of_catcher(above)
+    if at is None:
+        return node
+    catcher = above[at][0]
+    return put_below(above[:at], filled(catcher[2][1], node[2]))
 
 
 def outcome(state):
@@ -70,23 +70,48 @@ def outcome(state):
 
 def line_of(program, state):
     """The line of a state that is shown, or None."""
-    texts = []
-    for tree in (state.term,) + state.cells:
-        back = turned(program.book, tree)
-        if not is_turned(back):
-            return None
-        texts.append(show_tree(back, program.book, program.functions))
+    trees = shown_trees(program.book, state)
+    if trees is None:
+        return None
+    texts = [show_tree(tree, program.book, program.functions) for tree in trees]
     given = ["#" + str(at + 1) + " = " + text for at, text in enumerate(texts[1:])]
     return texts[0] + (" where " + " , ".join(given) if given else "")
 
 
+def shown_trees(book, state):
+    """The term and the cells' values of a state, turned back, if all of them are read by texts; else None."""
+    trees = []
+    for tree in (state.term,) + state.cells:
+        back = turned(book, tree)
+        if not is_turned(back):
+            return None
+        trees.append(back)
+    return trees
+
+
 def state_of(program, text):
     """The state of a line."""
-    tokens, given = parts_of_line(tokens_of(text))
-    term = core_of(program, tokens)
-    read = [(number, core_of(program, value)) for number, value in given]
+    parts = parts_of_line(tokens_of(text))
+    term, given = trees_of_line(program.book, program.functions, parts)
+    return state_with_cells(term, given)
+
+
+def trees_of_line(book, functions, parts):
+    """The readings of the parts of a line: of its expression, and of the cells' values in pairs with the numbers."""
+    tokens, given = parts
+    term = core_of(tokens, book, functions)
+    return term, [(number, core_of(value, book, functions)) for number, value in given]
+
+
+def core_of(tokens, book, functions):
+    """The reading of the text of these tokens."""
+    return reading(book, tree_of_tokens(tokens, book.lexicon, functions))
+
+
+def state_with_cells(term, given):
+    """The settled state of a term and pairs of a cell's number and its value; raises NoLine for wrong cells."""
     values = {}
-    for number, value in read:
+    for number, value in given:
         if number in values or not is_value(value):
             raise NoLine()
         values[number] = value
@@ -94,8 +119,3 @@ def state_of(program, text):
         if any([number not in values for number in cells_in(tree)]):
             raise NoLine()
     return state_with(term, values)
-
-
-def core_of(program, tokens):
-    """The reading of the text of these tokens."""
-    return reading(program.book, tree_of_tokens(tokens, program.book.lexicon, program.functions))

@@ -104,12 +104,16 @@ def trees_of(node):
 
 def gathered(node, done):
     """The node with its trees replaced by as many trees at the end of a list, which are taken off there."""
-    head, ink, items = node
-    first = len(items) - len(trees_of(node))
-    cut = len(done) - len(items) + first
-    trees = tuple(done[cut:])
+    cut = len(done) - len(trees_of(node))
+    trees = done[cut:]
     del done[cut:]
-    return (head, ink, items[:first] + trees)
+    return with_trees(node, trees)
+
+
+def with_trees(node, trees):
+    """The node with its trees replaced by as many others."""
+    head, ink, items = node
+    return (head, ink, items[:len(items) - len(trees)] + tuple(trees))
 
 
 def _is_node(thing):

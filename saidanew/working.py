@@ -24,13 +24,25 @@ def place_of_work(term):
     return node, above
 
 
+def wanted_values(node):
+    """The items of a node, which is no value, that must be values ahead of its own step."""
+    return node[2][:1] if node[0] in FIRST_ALONE else node[2]
+
+
 def item_to_work_on(node):
     """The index of the first item that must be a value and is none, or None."""
-    head, _, items = node
     if is_value(node):
         return None
-    for at, item in enumerate(items[:1] if head in FIRST_ALONE else items):
+    for at, item in enumerate(wanted_values(node)):
         if not is_value(item):
+            return at
+    return None
+
+
+def place_of_catcher(above):
+    """The index of the innermost `try` among the nodes above a raise, or None."""
+    for at in reversed(range(len(above))):
+        if above[at][0][0] == "try":
             return at
     return None
 

@@ -1,4 +1,4 @@
-"""The examples of the document in sections 1 and 5 to 8, word by word."""
+"""The examples of the document, word by word."""
 
 import doctest
 import unittest
@@ -10,6 +10,9 @@ From section 1:
     >>> from saidanew.programs import Program
     >>> book = Book('word or\nrule a => (do a)\nrule a ..r => (let t a (if t t *(or ..r)))')
     >>> program = Program(book, 'run (or (less 2 1) (none []) true)')
+    >>> from saidanew.stepper import Stepper
+    >>> list(Stepper(program).lines())
+    [(0, '(or (less 2 1) (none []) true)'), (1, '(or false (none []) true)'), (3, '(or (none []) true)'), (4, '(or true true)'), (6, 'true')]
 
 From section 5:
 
@@ -43,6 +46,12 @@ From section 7, of this state:
     >>> from saidanew.papers import why_hidden
     >>> why_hidden(book, s.term)
     ('lost', ())
+
+From section 11:
+
+    >>> from saidanew.opens import open_arguments
+    >>> open_arguments(book, 'or', 3)
+    (0,)
 
 The table of section 6, its last column read to trees:
 

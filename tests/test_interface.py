@@ -24,6 +24,9 @@ NAMES = {
     "reading": {"reading": "(book, tree)", "turned": "(book, tree)", "is_turned": "(tree)"},
     "papers": {"why_hidden": "(book, tree)", "paper_holds": "(book, tree, value)"},
     "programs": {"Program": "(book, text)"},
+    "stepper": {"Stepper": "(program, state=None)", "at_work": "(program, state)"},
+    "machine": {"Machine": "(program)"},
+    "opens": {"open_arguments": "(book, word, n)"},
     "steps": {
         "State": "(term, cells=())", "settled": "(term, cells)", "step": "(program, state)", "outcome": "(state)",
         "line_of": "(program, state)", "state_of": "(program, text)",
@@ -36,8 +39,16 @@ METHODS = {
     },
     "Program": {"body": "(self, f)", "__eq__": "(self, other)"},
     "State": {"__eq__": "(self, other)"},
+    "Stepper": {
+        "line": "(self)", "forth": "(self, many=1)", "back": "(self, many=1)", "next_line": "(self, *, most=5000)",
+        "lines": "(self, *, most=5000)", "over": "(self, path, *, most=5000)", "__iter__": "(self)",
+    },
+    "Machine": {"line": "(self)", "step": "(self)", "run": "(self, *, most=5000)", "copied": "(self)"},
 }
-PROPERTIES = {"Book": ("text", "words", "functions"), "Program": ("book", "functions", "start")}
+PROPERTIES = {
+    "Book": ("text", "words", "functions"), "Program": ("book", "functions", "start"),
+    "Stepper": ("number", "state", "said", "is_end"), "Machine": ("number", "state"),
+}
 
 
 class Interface(unittest.TestCase):
@@ -66,9 +77,11 @@ class Interface(unittest.TestCase):
                     with self.subTest(name=name, property=one):
                         self.assertIsInstance(vars(thing)[one], property)
 
-    def test_inked_is_a_generator(self):
+    def test_generators(self):
+        from saidanew.stepper import Stepper
         from saidanew.trees import inked
         self.assertTrue(inspect.isgeneratorfunction(inked))
+        self.assertTrue(inspect.isgeneratorfunction(Stepper.lines))
 
 
 if __name__ == "__main__":
