@@ -11,8 +11,8 @@ class Lexicon:
 
     Scopes are told for rules only for which they have been set. What takes
     time to be found is kept here once it has been asked for: templates, the
-    trees about which papers were asked last, what uses read as, and the bodies
-    of functions.
+    trees about which papers were asked last, what uses read as, the bodies of
+    functions, what was found of kinds, and which uses have which head.
     """
 
     def __init__(self, rules, functions):
@@ -25,6 +25,10 @@ class Lexicon:
         self.sights = []
         self.expansions = {}
         self.bodies = {}
+        self.schemes = None
+        self.named_functions = {}
+        self.derived_kinds = {}
+        self.candidates = None
 
     def with_row(self, row):
         """The lexicon with this row in the place of one that differs only in what is clear."""
