@@ -156,17 +156,24 @@ def without_repeats(whole, facts):
 
 def parties_of(facts, shared):
     """The facts in lists, so that none of their unknowns, other than the shared ones, is in two of the lists."""
-    parties = []
-    homes = {}
-    for fact in facts:
-        own = [unknown for unknown in unknowns_in([fact[1], *fact[2]]) if unknown not in shared]
-        joined = []
-        for at in sorted({homes[unknown] for unknown in own if unknown in homes}):
-            joined.extend(parties[at])
-            parties[at] = []
-        joined.append(fact)
-        for _, kind, binders in joined:
-            for unknown in unknowns_in([kind, *binders]):
-                homes[unknown] = len(parties)
-        parties.append(joined)
-    return parties
+    own = [[one for one in unknowns_in([kind, *binders]) if one not in shared] for _, kind, binders in facts]
+    heads = {}
+    for unknowns in own:
+        for unknown in unknowns:
+            heads.setdefault(unknown, unknown)
+            heads[head_of(heads, unknown)] = head_of(heads, unknowns[0])
+    parties = {}
+    for at, fact in enumerate(facts):
+        # A fact without such unknowns is a party by itself.
+        head = head_of(heads, own[at][0]) if own[at] else -1 - at
+        parties.setdefault(head, []).append(fact)
+    return list(parties.values())
+
+
+def head_of(heads, unknown):
+    """The unknown to which one comes in the end by a dict."""
+    while heads[unknown] != unknown:
+        # The way is made shorter for who comes next.
+        heads[unknown] = heads[heads[unknown]]
+        unknown = heads[unknown]
+    return unknown

@@ -53,6 +53,29 @@ From section 11:
     >>> open_arguments(book, 'or', 3)
     (0,)
 
+From section 12:
+
+    >>> from saidanew.kinds import kind_of, rule_kind
+    >>> rule_kind(loop, 'for', 3)
+    (((('a', ()),), (('b', ('a',)),)), 'b')
+    >>> kind_of(program, read_tree("(fun (x) (or x (same x true)))", book))
+    'fun (flag) flag'
+
+From section 13:
+
+    >>> from saidanew.folding import folded
+    >>> from saidanew.trees import bared
+    >>> folded(loop, bared(reading(loop, tree))) == tree
+    True
+
+From section 15:
+
+    >>> from saidanew.desk import Desk
+    >>> desk = Desk()
+    >>> row = 'word or ; rule a => (do a) ; rule a ..r => (let t a (if t t *(or ..r)))'
+    >>> (desk.say(row), desk.say('run (or false true)'), desk.say('next'), desk.say('at'))
+    ('kept', '(or false true)', '(or true)', '2')
+
 The table of section 6, its last column read to trees:
 
     >>> empty = Book('')

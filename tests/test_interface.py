@@ -8,7 +8,7 @@ import unittest
 
 PACKAGE = pathlib.Path(__file__).resolve().parent.parent / "saidanew"
 
-# Of each module that has landed, the functions and the arguments of classes.
+# Of each module the functions, and the arguments of classes.
 NAMES = {
     "errors": {
         "SaidError": None, "NoBook": "(row, why)", "NoText": "(at)", "NoTree": "(path)", "NoProgram": "(row, why)",
@@ -27,6 +27,13 @@ NAMES = {
     "stepper": {"Stepper": "(program, state=None)", "at_work": "(program, state)"},
     "machine": {"Machine": "(program)"},
     "opens": {"open_arguments": "(book, word, n)"},
+    "kinds": {
+        "kind_of": "(program, tree)", "kind_of_function": "(program, f)", "kind_of_state": "(program, state)",
+        "rule_kind": "(book, word, n)",
+    },
+    "folding": {"folded": "(book, tree)", "folds": "(book, tree)", "fold": "(book, tree, word, n)"},
+    "changes": {"clear_ink": "(book, other, ink)", "cleared": "(book, other, tree)", "renamed_tree": "(tree, names)"},
+    "desk": {"Desk": "()"},
     "steps": {
         "State": "(term, cells=())", "settled": "(term, cells)", "step": "(program, state)", "outcome": "(state)",
         "line_of": "(program, state)", "state_of": "(program, text)",
@@ -43,6 +50,7 @@ METHODS = {
         "line": "(self)", "forth": "(self, many=1)", "back": "(self, many=1)", "next_line": "(self, *, most=5000)",
         "lines": "(self, *, most=5000)", "over": "(self, path, *, most=5000)", "__iter__": "(self)",
     },
+    "Desk": {"say": "(self, row)", "trial": "(self)"},
     "Machine": {"line": "(self)", "step": "(self)", "run": "(self, *, most=5000)", "copied": "(self)"},
 }
 PROPERTIES = {

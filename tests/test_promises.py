@@ -4,7 +4,11 @@ import copy
 import unittest
 
 from saidanew.books import Book
-from saidanew.errors import NoBook, NoLine, NoText, NoTree
+from saidanew.changes import clear_ink, cleared, renamed_tree
+from saidanew.desk import Desk
+from saidanew.errors import NoBook, NoKind, NoLine, NoText, NoTree
+from saidanew.folding import fold, folded, folds
+from saidanew.kinds import kind_of, kind_of_function, kind_of_state, rule_kind
 from saidanew.papers import paper_holds, why_hidden
 from saidanew.programs import Program
 from saidanew.reading import is_turned, reading, turned
@@ -118,6 +122,67 @@ class Calls(unittest.TestCase):
         self.assertEqual(line_of(program=program, state=state), "(or 1)")
         self.assertEqual(state_of(program=program, text="(or 1)"), state)
         self.assertRaises(KeyError, lambda: program.body(f="g"))
+
+    def test_arguments_of_kinds_folding_changes_and_the_desk_by_name(self):
+        book = Book(OR + "\n" + FOR + "\nfun f (x) => x")
+        program = Program(book, "run (or 1)")
+        tree = read_tree("(or true false)", book)
+        self.assertEqual(kind_of(program=program, tree=tree), "flag")
+        self.assertEqual(kind_of_function(program=program, f="f"), "fun (a) a")
+        self.assertEqual(kind_of_state(program=program, state=program.start), "num")
+        self.assertEqual(rule_kind(book=book, word="or", n=1), (((("a", ()),),), "a"))
+        core = bared(reading(book, tree))
+        self.assertEqual(folded(book=book, tree=core), tree)
+        self.assertEqual(folds(book=book, tree=core), (("or", 2),))
+        self.assertEqual(fold(book=book, tree=core, word="or", n=2), tree)
+        other = book.with_clear(word="for", rule=0, path=(0,))
+        ink = (("for", 0, (0,)),)
+        self.assertEqual(clear_ink(book=book, other=other, ink=ink), ())
+        self.assertEqual(cleared(book=book, other=other, tree=("do", ink, (integer(1),))), ("do", (), (integer(1),)))
+        self.assertEqual(book.renamed(names={"or": "either"}).words, ("either", "for"))
+        self.assertEqual(renamed_tree(tree=tree, names={"or": "either"})[2][0], "either")
+        self.assertEqual(Desk().say(row="book"), "")
+        with Desk().trial() as desk:
+            self.assertEqual(desk.say("run 1"), "1")
+
+    def test_kinds_folds_and_the_desk_are_told_the_same_whatever_is_called_in_between(self):
+        def results():
+            found = []
+            for text in samples.TEXTS:
+                book = Book(text)
+                maker = samples.Maker(book, 3)
+                tree = bared(reading(book, maker.tree(4, has_uses=True)))
+                found.append([self.told_kind(book, *use) for use in maker.uses])
+                if "made" not in str(tree):
+                    found += [folds(book, tree), count(folded(book, tree))]
+            return found
+
+        first = results()
+        book = Book(samples.TEXTS[4])
+        desk = Desk()
+        for row in ("word k ; rule a => (do a)", "run (k 1)", "kind", "next", "change (k 2)", "undo"):
+            desk.say(row)
+        for word in book.words:
+            for n in range(8):
+                self.told_kind(book, word, n)
+        self.assertEqual(results(), first)
+
+    def told_kind(self, book, word, n):
+        try:
+            return rule_kind(book, word, n)
+        except NoKind:
+            return "unfit"
+
+    def test_what_is_passed_is_not_changed_by_kinds_folding_and_changes(self):
+        book = Book(OR + "\n" + FOR)
+        names = {"or": "either", "for": "or"}
+        tree = bared(reading(book, read_tree("(for x 1 (or x 2))", book)))
+        state = Program(book, "run (list (get #1) (or 1)) where #1 = 2").start
+        copies = copy.deepcopy((names, tree, state.term, state.cells))
+        folded(book, tree), folds(book, tree), fold(book, tree, "for", 3), renamed_tree(tree, names), cleared(book, book, tree)
+        book.renamed(names)
+        kind_of_state(Program(book, "run 1"), state)
+        self.assertEqual((names, tree, state.term, state.cells), copies)
 
     def test_programs(self):
         book = Book(OR + "\nfun one () => 1")
