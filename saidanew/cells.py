@@ -50,10 +50,10 @@ def renumbered(tree, numbers):
         node, is_open = waiting.pop()
         trees = trees_of(node)
         if is_open:
-            inner = []
-            while len(inner) < len(trees):
-                inner.append(done.pop())
-            done.append(with_trees(node, inner[::-1]))
+            anew = []
+            while len(anew) < len(trees):
+                anew.append(done.pop())
+            done.append(with_trees(node, anew[::-1]))
         elif node[0] == "ref":
             done.append(("ref", (), (numbers[node[2][0]],)))
         elif not trees:

@@ -109,8 +109,9 @@ def bound_name(demands, node, kind, around, inner):
 def listed(demands, node, kind, around, inner):
     """A `list` or a `made`, whose items have one kind."""
     item = demands.solver.unknown()
-    for instances in inner:
-        instances.append((item, () if node[0] == "made" else around))
+    many = len(inner)
+    for at in range(many):
+        inner[at].append((item, () if node[0] == "made" else around))
     return demands.solver.are_one(kind, ("list", item))
 
 

@@ -193,8 +193,8 @@ def change_taken_back(run, numbers):
 
 def said_told(run, numbers):
     """The row `said`."""
-    book = run.track.program.book
-    texts = [show_tree(tree, book) for tree in run.track.said_until(run.at)]
+    track = run.track
+    texts = [show_tree(tree, track.program.book) for tree in track.told[:track.heard[run.at]]]
     return run, " , ".join(texts) if texts else "nothing"
 
 

@@ -55,6 +55,6 @@ def paths_of_arguments(tree, many):
             paths[argument_number(node)].append(path)
         else:
             first = FIRST_TREE.get(node[0], 0)
-            inner = [(path + (first + at,), tree) for at, tree in enumerate(trees_of(node))]
+            inner = [(path + (first + at,), item) for at, item in enumerate(trees_of(node))]
             waiting.extend(inner[::-1])
     return paths

@@ -1,6 +1,6 @@
 """Filling: closed values come in the place of names."""
 
-from saidanew.binders import binders_over
+from saidanew.binders import binders_over_core
 from saidanew.trees import LITERALS, gathered, trees_of
 
 
@@ -20,6 +20,6 @@ def filled(tree, values):
             done.append(node)
         else:
             waiting.append((node, None))
-            for inner, many in list(zip(trees_of(node), binders_over(node, None)))[::-1]:
+            for inner, many in list(zip(trees_of(node), binders_over_core(node)))[::-1]:
                 waiting.append((inner, depth + many))
     return done[0]

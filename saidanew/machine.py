@@ -5,7 +5,7 @@ the values of the names around it, the innermost one last. Items of a `made` may
 be such ones.
 """
 
-from saidanew.binders import binders_over
+from saidanew.binders import binders_over_core
 from saidanew.cells import cells_in
 from saidanew.errors import AtEnd
 from saidanew.steps import line_of, outcome, state_with
@@ -181,10 +181,10 @@ def term_of_work(frames, last):
         trees = [read_back(value, (), 0) for value in values]
         if term is not None:
             trees.append(term)
-        overs = binders_over(node, None)
-        for at in range(len(trees), len(overs)):
-            trees.append(read_back(node[2][at], around, overs[at]))
-        term = (node[0], node[1], tuple(trees))
+        overs = binders_over_core(node)
+        done = len(trees)
+        rest = [read_back(node[2][at], around, overs[at]) for at in range(done, len(overs))]
+        term = (node[0], node[1], tuple(trees + rest))
     return term
 
 
@@ -199,10 +199,10 @@ def read_back(tree, around, depth):
             node, values, deep = node[:3], node[3], 0
         head = node[0]
         if values is None:
-            inner = []
-            while len(inner) < len(trees_of(node)):
-                inner.append(done.pop())
-            done.append(with_trees(node, inner[::-1]))
+            trees = []
+            while len(trees) < len(trees_of(node)):
+                trees.append(done.pop())
+            done.append(with_trees(node, trees[::-1]))
         elif head == "name" and node[2][0] >= deep:
             waiting.append((values[deep - 1 - node[2][0]], (), 0))
         elif head in SINGLE or not values and head != "made":
@@ -211,6 +211,6 @@ def read_back(tree, around, depth):
             waiting.append((node, None, 0))
             # The items of a `made` are closed, so that no name in them is one of those around it.
             inside = () if head == "made" else values
-            for inner, many in list(zip(trees_of(node), binders_over(node, None)))[::-1]:
+            for inner, many in list(zip(trees_of(node), binders_over_core(node)))[::-1]:
                 waiting.append((inner, inside, deep + many))
     return done[0]

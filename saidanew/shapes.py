@@ -6,7 +6,7 @@ to which it refers, in the order of the first names that do so, the number by
 which a name at its root refers to this binder.
 """
 
-from saidanew.binders import binders_over
+from saidanew.binders import binders_over_core
 from saidanew.trees import gathered, trees_of
 
 
@@ -56,7 +56,7 @@ class Shapes:
         head, _, items = node
         references = []
         parts = []
-        for (number, wanted), over in zip(inner, binders_over(node, None)):
+        for (number, wanted), over in zip(inner, binders_over_core(node)):
             links = []
             for index in wanted:
                 if index >= over and index - over not in references:

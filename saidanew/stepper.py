@@ -29,7 +29,8 @@ class Stepper:
     @property
     def said(self):
         """All that was said on the way from state 0 to the present one."""
-        return self._track.said_until(self._at)
+        track = self._track
+        return tuple(track.told[:track.heard[self._at]])
 
     @property
     def is_end(self):
@@ -85,5 +86,6 @@ class Stepper:
 
 def at_work(program, state):
     """The words whose templates are at work in a state, ascending."""
-    words = {ink[-1][0]: True for _, ink in inked(turned(program.book, state.term))}
+    back = turned(program.book, state.term)
+    words = {ink[-1][0]: True for _, ink in inked(back)}
     return tuple(sorted(words))

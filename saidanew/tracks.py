@@ -39,10 +39,6 @@ class Track:
         """The greatest number of a state that is not above this one."""
         return number if self.reaches(number) else len(self.states) - 1
 
-    def said_until(self, number):
-        """What was said on the way to a state."""
-        return tuple(self.told[:self.heard[number]])
-
     def with_change(self, number, state):
         """The track that leads to the state with this number as this one does, and from there to another one."""
         other = Track(self.program, state)
