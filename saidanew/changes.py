@@ -1,6 +1,6 @@
 """What trees are in clearer books, and by other names."""
 
-from saidanew.trees import gathered, trees_of
+from saidanew.trees import changed_throughout
 
 
 def clear_ink(book, other, ink):
@@ -20,30 +20,12 @@ def is_clear(book, mark):
 
 def cleared(book, other, tree):
     """The tree with all inks as they are in the other book."""
-    done = []
-    waiting = [(tree, False)]
-    while waiting:
-        node, is_open = waiting.pop()
-        if is_open:
-            done.append(gathered(node, done))
-        else:
-            waiting.append(((node[0], clear_ink(book, other, node[1]), node[2]), True))
-            waiting.extend([(inner, False) for inner in trees_of(node)[::-1]])
-    return done[0]
+    return changed_throughout(tree, lambda node: (node[0], clear_ink(book, other, node[1]), node[2]))
 
 
 def renamed_tree(tree, names):
     """The tree with words named anew by a dict, in uses and in marks."""
-    done = []
-    waiting = [(tree, False)]
-    while waiting:
-        node, is_open = waiting.pop()
-        if is_open:
-            done.append(gathered(node, done))
-        else:
-            waiting.append((renamed_node(node, names), True))
-            waiting.extend([(inner, False) for inner in trees_of(node)[::-1]])
-    return done[0]
+    return changed_throughout(tree, lambda node: renamed_node(node, names))
 
 
 def renamed_node(node, names):

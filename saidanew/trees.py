@@ -81,6 +81,11 @@ def inked(tree):
 
 def bared(tree):
     """The tree with all inks empty."""
+    return changed_throughout(tree, lambda node: (node[0], (), node[2]))
+
+
+def changed_throughout(tree, change):
+    """The tree with each node changed by a function that leaves the node's trees as they are."""
     done = []
     waiting = [(tree, False)]
     while waiting:
@@ -88,7 +93,7 @@ def bared(tree):
         if is_open:
             done.append(gathered(node, done))
         else:
-            waiting.append(((node[0], (), node[2]), True))
+            waiting.append((change(node), True))
             waiting.extend([(inner, False) for inner in trees_of(node)[::-1]])
     return done[0]
 
