@@ -9,7 +9,7 @@ from saidanew.turning import (
 # The kinds of papers, with how many things each one has.
 LENGTHS = {"lost": 2, "part": 3, "unlike": 3, "own": 3, "count": 2}
 # So many trees are kept with what was found of them; their depth is limited because they are compared.
-KEPT = 4
+KEPT = 64
 DEEPEST_KEPT = 150
 
 

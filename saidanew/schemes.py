@@ -48,13 +48,14 @@ class Schemes:
 
     def scheme_for(self, word, n):
         """The scheme of a use that some rule takes, or None if its template does not fit by itself."""
-        if self.others is not None and not self._called_in(word, n):
+        if self._is_elsewhere(word, n):
             return self.others.scheme_for(word, n)
         waiting = [(word, n)]
         while waiting:
             key = waiting[-1]
             tree = None if key in self.known else template_for(self.lexicon, key[0], key[1]).tree
             wanted = [] if tree is None else [use for use in uses_in(tree) if use not in self.known]
+            wanted = [use for use in wanted if not self._is_elsewhere(use[0], use[1])]
             if wanted:
                 # The uses in a template come first; none of them leads back to it.
                 waiting.extend(wanted)
@@ -63,6 +64,10 @@ class Schemes:
                 if tree is not None:
                     self.known[key] = self._scheme_of(tree, self._called_in(key[0], key[1]))
         return self.known[(word, n)]
+
+    def _is_elsewhere(self, word, n):
+        """Whether the scheme of a use is among the others."""
+        return self.others is not None and not self._called_in(word, n)
 
     def _called_in(self, word, n):
         """The functions of the group that are named in what a use reads as."""
@@ -74,16 +79,16 @@ class Schemes:
     def _scheme_of(self, tree, called):
         """The scheme of a template which names these functions of the group."""
         demands = Demands(self, self.function_schemes)
-        kind = demands.solver.unknown()
+        solver = demands.solver
+        kind = solver.unknown()
         for name in called:
-            demands.group[name] = demands.solver.unknown()
+            demands.group[name] = solver.unknown()
         if demands.first_unmet(tree, kind, ()) is not None:
             return None
-        resolved = demands.solver.resolved
-        whole = resolved(kind)
-        facts = [(name, resolved(wanted), ()) for name, wanted in demands.group.items()]
+        whole = solver.resolved(kind)
+        facts = [(name, solver.resolved(wanted), ()) for name, wanted in demands.group.items()]
         for number, wanted, binders in demands.places:
-            facts.append((number, resolved(wanted), tuple([resolved(binder) for binder in binders])))
+            facts.append((number, solver.resolved(wanted), tuple([solver.resolved(binder) for binder in binders])))
         kept = without_repeats(whole, facts)
         places = [fact for fact in kept if isinstance(fact[0], int)]
         return Scheme(whole, places, [fact[:2] for fact in kept if not isinstance(fact[0], int)])

@@ -18,6 +18,7 @@ METHODS = set("""append clear copy count endswith extend find get index insert i
 SPECIAL = set("__init__ __eq__ __repr__ __str__ __len__ __enter__ __exit__ __call__ __iter__".split())
 WORDS = re.compile(r"\b(typing|enum|Enum|Flag|Generic|Protocol|ABC|namedtuple|abstractmethod)\b"
                    r"|dataclass|overload|contextmanager|_wall|_WallAttr")
+CHANGING = set("append clear extend insert pop remove reverse setdefault update sort add discard".split())
 NOWHERE = set("register mro elements open input law globals locals vars dir eval exec id type hash format".split())
 BARRED = (ast.Global, ast.AsyncFunctionDef, ast.Await, ast.AsyncFor, ast.AsyncWith, ast.Div, ast.MatMult, ast.GeneratorExp,
           ast.Import)
@@ -160,6 +161,84 @@ class Language(unittest.TestCase):
                 if isinstance(node, ast.Call) and isinstance(node.func, ast.Attribute):
                     with self.subTest(path.name, line=node.lineno):
                         self.assertIn(node.func.attr, METHODS | own)
+
+    def test_methods_are_called_where_they_stand(self):
+        own = {one.name for path in files() for node in ast.walk(parsed(path)) if isinstance(node, ast.ClassDef)
+               for one in node.body if isinstance(one, ast.FunctionDef) and not one.decorator_list}
+        for path in files():
+            tree = parsed(path)
+            called = {id(node.func) for node in ast.walk(tree) if isinstance(node, ast.Call)}
+            for node in ast.walk(tree):
+                if isinstance(node, ast.Attribute) and node.attr in own | METHODS - {"count", "index", "title", "find", "get", "copy"}:
+                    with self.subTest(path.name, line=node.lineno):
+                        self.assertIn(id(node), called)
+
+    def test_loops_do_not_change_what_they_go_over(self):
+        for path in files():
+            for loop in ast.walk(parsed(path)):
+                if isinstance(loop, ast.For):
+                    over = {ast.unparse(node) for node in ast.walk(loop.iter) if isinstance(node, (ast.Name, ast.Attribute))}
+                    for statement in loop.body + loop.orelse:
+                        for thing in changed_in(statement):
+                            with self.subTest(path.name, line=loop.lineno):
+                                self.assertNotIn(thing, over)
+
+    def test_properties_and_comparisons_change_nothing_but_what_they_made(self):
+        functions, methods, first = {}, {}, []
+        for path in files():
+            for node in ast.walk(parsed(path)):
+                if isinstance(node, ast.ClassDef):
+                    for one in node.body:
+                        if isinstance(one, ast.FunctionDef):
+                            methods.setdefault(one.name, []).append(one)
+                            if one.decorator_list or one.name in ("__eq__", "__len__"):
+                                first.append(one)
+                elif isinstance(node, ast.FunctionDef):
+                    functions.setdefault(node.name, []).append(node)
+        waiting, seen = list(first), set()
+        while waiting:
+            function = waiting.pop()
+            if id(function) in seen:
+                continue
+            seen.add(id(function))
+            made = made_in(function)
+            for thing in changed_in(function):
+                with self.subTest(function.name, thing=thing):
+                    self.assertIn(thing, made)
+            for node in ast.walk(function):
+                if isinstance(node, ast.Call) and isinstance(node.func, ast.Name):
+                    waiting += functions.get(node.func.id, [])
+                elif isinstance(node, ast.Call) and isinstance(node.func, ast.Attribute):
+                    waiting += methods.get(node.func.attr, [])
+        self.assertGreater(len(seen), 20)
+
+
+def changed_in(part):
+    """What is changed in a part of the code, by its items, its attributes or a method."""
+    for node in ast.walk(part):
+        if isinstance(node, ast.Call) and isinstance(node.func, ast.Attribute) and node.func.attr in CHANGING:
+            yield ast.unparse(node.func.value)
+        elif isinstance(node, (ast.Subscript, ast.Attribute)) and isinstance(node.ctx, (ast.Store, ast.Del)):
+            yield ast.unparse(node.value)
+
+
+def made_in(function):
+    """The names of what a function makes itself, whatever it is assigned."""
+    values = {}
+    for node in ast.walk(function):
+        if isinstance(node, ast.Assign):
+            for target in node.targets:
+                values.setdefault(ast.unparse(target), []).append(is_made(node.value))
+        elif isinstance(node, (ast.For, ast.comprehension)):
+            for name in ast.walk(node.target):
+                values.setdefault(ast.unparse(name), []).append(False)
+    return {name for name, made in values.items() if all(made)} - {one.arg for one in function.args.args}
+
+
+def is_made(value):
+    if isinstance(value, ast.Call):
+        return isinstance(value.func, ast.Name) and value.func.id in ("list", "dict", "set", "sorted")
+    return isinstance(value, (ast.List, ast.Dict, ast.ListComp, ast.DictComp))
 
 
 if __name__ == "__main__":
