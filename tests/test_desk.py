@@ -247,6 +247,20 @@ class Changes(Asserts):
                   ("back 3", "(try (list (or (seq 1 (raise 'a)))) a (list (do a)))"), ("over 0 0", "(list (do 'b))"), ("at", "3"), ("undo", "undone"),
                   ("back 5", "(try (list (or (seq 1 (raise 'a)))) a (list (do a)))"), ("over 0 0", "(list (do 'a))"), ("at", "2"))
 
+    def test_over_along_several_changes(self):
+        found = desk("run (try (list (or (seq 1 (raise 'a)))) e (list (do e)))", "step 1",
+                     "change (try (list (or (raise 'b))) e (list (do e)))", "change (try (list (or (seq 1 (raise 'c)))) e (list (do e)))", "back 3")
+        with found.trial():
+            self.says(found, ("over 0 0", "(list (do 'c))"), ("at", "5"))
+        self.says(found, ("step 3", "(try (list (or (seq 1 (raise 'c)))) a (list (do a)))"), ("undo", "undone"), ("back 2", "(try (list (or (seq 1 (raise 'a)))) a (list (do a)))"),
+                  ("over 0 0", "(list (do 'b))"), ("at", "3"))
+
+    def test_said_behind_changes(self):
+        found = desk("run (list (say 1) (say 2) (say 3))", "step 3", "back 2")
+        self.says(found, ("said", "1"), ("change (list 8 (say 9))", "(list 8 (say 9))"), ("said", "1"), ("at", "2"), ("step 1", "(list 8 9)"), ("said", "1 , 9"),
+                  ("step 9", "[8 9]"), ("said", "1 , 9"), ("back 2", "(list 8 (say 9))"), ("said", "1"), ("back 1", "(list 1 (say 2) (say 3))"), ("said", "1"),
+                  ("undo", "undone"), ("step 1", "(list 1 2 (say 3))"), ("said", "1 , 2"))
+
     def test_a_new_run_has_no_changes(self):
         found = desk("run 1", "change 2", "run 3")
         self.refused(found, NoChange, "undo")

@@ -147,6 +147,11 @@ class Fewest(unittest.TestCase):
         self.assertEqual(count(folded(book, read("(list (seq 5 1) (seq 5 1))", book))), 2)
         self.assertEqual(folded(book, read("(list (twice 3) 1 1 (twice 3))", book)), read_tree("(twice (twice 3) 1)", book))
 
+    def test_nodes_are_counted_and_not_uses(self):
+        book = Book("word s\nrule a => (seq a 1)\nword big\nrule a => (seq (seq (seq (seq a 1) 1) 1) 1)\nword p\nrule a => (do (do (seq a 1)))")
+        self.assertEqual(folded(book, read("(p (s (s (s 2))))", book)), read_tree("(do (do (big 2)))", book))
+        self.assertEqual(folded(book, read("(p (s (s 2)))", book)), read_tree("(p (s (s 2)))", book))
+
     def test_readings_of_random_trees(self):
         shorter = 0
         for book in samples.books() + [programs.BOOK, NESTED]:

@@ -165,6 +165,16 @@ class Uses(Asserts):
         self.misfits(("(mix (list 1))", (2, 0)), ("(mix [1])", (2, 0)), ("(fun (x) (mix (list x)))", (1, 2, 0)), ("(mix (list (list) 1))", (2, 0)),
                      ("(fun (x) (mix (put x (list 1))))", (1, 2, 0)), program=program)
 
+    def test_arguments_that_are_bound_together_by_what_is_between_them(self):
+        book = Book("word two\nrule a b c => (seq (same a b) (same a c))\nword four\nrule a b c => (list (two a b c) (two b c a) (two c a b))\n"
+                    "word lone\nrule a b => (seq (seq (list a) (list b)) 1)\nword pairs\nrule a b => (seq (seq (call a b) 1) (seq (call a b) 1))")
+        program = Program(book, "run 1")
+        self.kinds(("(two 1 2 3)", "flag"), ("(two [] [1] ['a])", "flag"), ("(four 1 2 3)", "list flag"), ("(four [] [] [])", "list flag"),
+                   ("(lone 1 'a)", "num"), ("(lone 1 (lone 'a true))", "num"), ("(pairs (fun (x) x) 1)", "num"), program=program)
+        self.misfits(("(two 1 2 'a)", (4,)), ("(two 1 'a 1)", (3,)), ("(four 1 1 'a)", (4,)), ("(four [] [1] 'a)", (4,)), ("(pairs (fun (x) (not x)) 1)", (3,)),
+                     ("(fun (x) (two x (list x) 1))", (1, 3, 0)), program=program)
+        self.misfits(("(fun (x y) (seq (two x 1 y) (list x 'a)))", (1, 1, 1)), program=program)
+
     def test_in_made_lists(self):
         book = Book("word thunk\nrule a => (fun () a)\nword bad\nrule a => (fun () (plus a true))\nword neg\nrule a => (fun (x) (list a (minus 0 x)))")
         program = Program(book, "run 1")

@@ -141,6 +141,19 @@ class Lines(unittest.TestCase):
         self.assertIsNone(stepper.next_line())
         self.assertEqual((stepper.number, stepper.line()), (1, "(keep 2)"))
 
+    def test_without_most_it_is_5000(self):
+        book = "word wait\nrule a => (list %s 1)\nfun down (n) => (if (less n 1) 0 (call down (minus n 1)))"
+        stepper = Stepper(Program(Book(book % "(call down a)"), "run (wait 1249)"))
+        self.assertIsNone(stepper.next_line(most=4999))
+        self.assertEqual((stepper.next_line(), stepper.number), ("[0 1]", 5000))
+        stepper = Stepper(Program(Book(book % "(do (call down a))"), "run (wait 1249)"))
+        self.assertIsNone(stepper.next_line())
+        self.assertEqual((stepper.next_line(most=5001), stepper.number), ("[0 1]", 5001))
+        stepper.back(5001)
+        self.assertEqual(list(stepper.lines()), [(0, "(wait 1249)")])
+        stepper = Stepper(Program(Book(book % "(call down a)"), "run (wait 1249)"))
+        self.assertEqual(list(stepper.lines()), [(0, "(wait 1249)"), (5000, "[0 1]")])
+
     def test_lines_from_the_middle_with_most(self):
         for program in programs.programs():
             states, _ = walked(program)
