@@ -57,15 +57,13 @@ class Desk:
             return self._begin(rest)
         if word not in RUN_ROWS and word != "book":
             raise NoRow()
-        numbers = None
-        if word != "change":
-            numbers = numbers_of(word, rest)
+        told = rest if word == "change" else numbers_of(word, rest)
         if word == "book":
             return self.book_held.text.replace("\n", " " + PART + " ")
         if self.run_held is None:
             raise NoRun()
         action = RUN_ROWS[word]
-        self.run_held, text = action(self.run_held, rest if word == "change" else numbers)
+        self.run_held, text = action(self.run_held, told)
         return text
 
     def trial(self):
